@@ -1,0 +1,1 @@
+"""Ringloads: what is sent round a ring, one way or the other."""

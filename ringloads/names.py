@@ -1,0 +1,27 @@
+"""What is told of any thing: whether it is a whole number, a fraction, a name."""
+
+from ringloads.divisors import greatest_shared
+
+LONGEST_NAME = 8
+
+
+def is_whole(thing):
+    """Whether a thing of any kind is a whole number."""
+    # Python counts True and False among its whole numbers; the program does not.
+    return isinstance(thing, int) and not isinstance(thing, bool)
+
+
+def is_ratio(thing):
+    """Whether a thing of any kind is a fraction in lowest terms."""
+    if not isinstance(thing, tuple) or len(thing) != 2:
+        return False
+    if not is_whole(thing[0]) or not is_whole(thing[1]):
+        return False
+    return thing[1] >= 1 and greatest_shared(thing[0], thing[1]) == 1
+
+
+def is_name(thing):
+    """Whether a thing of any kind is a text of one to eight small letters."""
+    if not isinstance(thing, str):
+        return False
+    return 1 <= len(thing) <= LONGEST_NAME and all(["a" <= sign <= "z" for sign in thing])

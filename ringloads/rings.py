@@ -1,0 +1,52 @@
+"""Rings: tuples (rooms, asks), and what refuses things that are none."""
+
+from ringloads.errors import NoRing
+from ringloads.names import is_name, is_ratio, is_whole
+
+FEWEST_TIES = 2
+MOST_TIES = 12
+MOST_ASKS = 20
+
+
+def look_at_ring(thing):
+    """None where a thing of any kind is a ring, else NoRing."""
+    if not isinstance(thing, tuple) or len(thing) != 2:
+        raise NoRing("ring", None)
+    look_at_rooms(thing[0])
+    look_at_asks(thing[1], len(thing[0]))
+
+
+def look_at_rooms(rooms):
+    """None where a thing of any kind is the rooms of a ring, else NoRing."""
+    if not isinstance(rooms, list) or not FEWEST_TIES <= len(rooms) <= MOST_TIES:
+        raise NoRing("rooms", None)
+    for number, room in enumerate(rooms):
+        if not is_ratio(room) or room[0] <= 0:
+            raise NoRing("rooms", number)
+
+
+def look_at_asks(asks, places):
+    """None where a thing of any kind is the asks of a ring of so many places, else NoRing."""
+    if not isinstance(asks, list) or len(asks) > MOST_ASKS:
+        raise NoRing("asks", None)
+    taken = {}
+    for number, ask in enumerate(asks):
+        if not is_ask(ask, places) or ask[0] in taken:
+            raise NoRing("asks", number)
+        taken[ask[0]] = True
+
+
+def is_ask(thing, places):
+    """Whether a thing of any kind is an ask of a ring of so many places, other asks aside."""
+    if not isinstance(thing, tuple) or len(thing) != 4:
+        return False
+    if not is_name(thing[0]) or not is_ratio(thing[3]):
+        return False
+    if not is_place_of(thing[1], places) or not is_place_of(thing[2], places):
+        return False
+    return thing[1] != thing[2] and thing[3][0] >= 0
+
+
+def is_place_of(thing, places):
+    """Whether a thing of any kind is the number of one of so many places."""
+    return is_whole(thing) and 0 <= thing < places

@@ -1,0 +1,164 @@
+"""Rings, fractions and things of every kind that several tests draw on.
+
+Nothing of the program is used here, so a fault of it can't hide in here too.
+"""
+
+import copy
+import random
+from fractions import Fraction
+from math import gcd
+
+SIXTY = 10 ** 60 - 1
+
+
+def odd_things():
+    """Things of many kinds, made anew for each asker."""
+    return [
+        None, True, False, 0, 1, 2, -1, 10 ** 60, "", "a", "on", "back", "ring", "1", "(0, 1)",
+        b"", b"on", [], [1], [None], [[]], [1, 2], ["on"], (), (1,), (0, 1), (1, 2), (2, 4), (1, 0),
+        (True, 1), (1, True), (0, 2), (1, -2), ("a", "b"), ([], []), (None, None), (1, 2, 3),
+        {}, {0: 1, 1: 2}, {"a": 1}, set(), {1, 2}, frozenset(), range(2), len, int, tuple, object(),
+        Fraction(1, 2), Ellipsis, ValueError("a"), iter([]), (lambda: None),
+    ]
+
+
+def told(number):
+    """A Fraction in the program's form."""
+    number = Fraction(number)
+    return (number.numerator, number.denominator)
+
+
+def number_of(one):
+    """A fraction of the program's form as a Fraction."""
+    return Fraction(one[0], one[1])
+
+
+def has_form_of_ratio(thing):
+    """Whether a thing is a fraction, to the kinds and forms."""
+    if type(thing) is not tuple or len(thing) != 2:
+        return False
+    if type(thing[0]) is not int or type(thing[1]) is not int:
+        return False
+    return thing[1] >= 1 and gcd(thing[0], thing[1]) == 1
+
+
+def name_of(number):
+    """An unlike name for each number."""
+    letters = ""
+    while True:
+        letters = "abcdefghijklmnopqrstuvwxyz"[number % 26] + letters
+        number = number // 26
+        if number == 0:
+            return letters
+
+
+def plain_ring(places, asks):
+    """A ring with rooms of one; asks are tuples (one, other, size), size whole."""
+    return (
+        [(1, 1) for tie in range(places)],
+        [(name_of(k), one, other, (size, 1)) for k, (one, other, size) in enumerate(asks)],
+    )
+
+
+def some_ring(chance, places, asks, ratio_of):
+    """A ring drawn by chance; ratio_of(chance, from_nought) draws a fraction."""
+    rooms = [ratio_of(chance, False) for tie in range(places)]
+    drawn = []
+    for k in range(asks):
+        one, other = chance.sample(range(places), 2)
+        drawn.append((name_of(k), one, other, ratio_of(chance, True)))
+    return (rooms, drawn)
+
+
+def small_ratio(chance, from_nought):
+    """A fraction of small numbers."""
+    return told(Fraction(chance.randint(0 if from_nought else 1, 9), chance.randint(1, 4)))
+
+
+def whole_ratio(chance, from_nought):
+    """A whole number as a fraction."""
+    return (chance.randint(0 if from_nought else 1, 9), 1)
+
+
+def unit_room(chance, from_nought):
+    """A whole size; a room of one."""
+    return (chance.randint(0, 9), 1) if from_nought else (1, 1)
+
+
+def long_ratio(chance, from_nought):
+    """A fraction of numbers of sixty figures."""
+    return told(Fraction(chance.randint(10 ** 59, SIXTY), chance.randint(10 ** 59, SIXTY)))
+
+
+def many_rings():
+    """Rings of all sizes, the same ones each time."""
+    chance = random.Random(20)
+    rings = []
+    for places in range(2, 13):
+        for asks in (0, 1, 2, 3, 5, 8, 13, 20):
+            for ratio_of in (small_ratio, whole_ratio, unit_room):
+                rings.append(some_ring(chance, places, asks, ratio_of))
+    return rings
+
+
+def some_sending(chance, ring):
+    """A sending of the ring, with parts of nought and of the size among the others."""
+    shares = [Fraction(0), Fraction(1), Fraction(1, 2), Fraction(1, 3), Fraction(4, 5)]
+    return [told(number_of(ask[3]) * chance.choice(shares)) for ask in ring[1]]
+
+
+def walked(ring, k, way):
+    """The ties of a way, by going from place to place."""
+    places = len(ring[0])
+    place = ring[1][k][1]
+    ties = []
+    while place != ring[1][k][2]:
+        if way == "on":
+            ties.append(place)
+            place = 0 if place == places - 1 else place + 1
+        else:
+            place = places - 1 if place == 0 else place - 1
+            ties.append(place)
+    return ties
+
+
+def told_anew(test, ask, handed, spoil=None):
+    """Ask with copies of what is handed in; check that they stay, and that no told list is shared.
+
+    spoil changes what was told; left out, all lists in it are emptied.
+    """
+    first = copy.deepcopy(handed)
+    answer = ask(*first)
+    test.assertEqual(first, handed)
+    kept = copy.deepcopy(answer)
+    if spoil is None:
+        spoil = empty_all
+    spoil(answer)
+    test.assertEqual(first, handed, "what was told is part of what was handed in")
+    test.assertEqual(ask(*first), kept, "what was told before is part of a later answer")
+    test.assertEqual(first, handed)
+    return kept
+
+
+def empty_all(thing):
+    """Empty each list in a thing."""
+    if isinstance(thing, (list, tuple)):
+        for one in list(thing):
+            empty_all(one)
+    if isinstance(thing, list):
+        thing.clear()
+
+
+def lists_in(thing):
+    """All lists in a thing, itself too."""
+    found = [thing] if isinstance(thing, list) else []
+    if isinstance(thing, (list, tuple)):
+        for one in thing:
+            found.extend(lists_in(one))
+    return found
+
+
+def no_list_shared(test, *things):
+    """Check that no two places of the things hold one and the same list."""
+    marks = [id(one) for thing in things for one in lists_in(thing)]
+    test.assertEqual(len(marks), len(set(marks)))
