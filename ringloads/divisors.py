@@ -1,4 +1,4 @@
-"""What whole numbers share, and what they have in common."""
+"""What divides two whole numbers, and what two whole numbers divide."""
 
 
 def greatest_shared(one, other):
@@ -8,3 +8,8 @@ def greatest_shared(one, other):
         one = other
         other = rest
     return abs(one)
+
+
+def least_common(one, other):
+    """The least whole number from 1 on that both divide; both from 1 on."""
+    return one // greatest_shared(one, other) * other

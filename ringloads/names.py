@@ -11,13 +11,14 @@ def is_whole(thing):
     return isinstance(thing, int) and not isinstance(thing, bool)
 
 
+def are_two_wholes(thing):
+    """Whether a thing of any kind is a tuple of two whole numbers."""
+    return isinstance(thing, tuple) and len(thing) == 2 and is_whole(thing[0]) and is_whole(thing[1])
+
+
 def is_ratio(thing):
     """Whether a thing of any kind is a fraction in lowest terms."""
-    if not isinstance(thing, tuple) or len(thing) != 2:
-        return False
-    if not is_whole(thing[0]) or not is_whole(thing[1]):
-        return False
-    return thing[1] >= 1 and greatest_shared(thing[0], thing[1]) == 1
+    return are_two_wholes(thing) and thing[1] >= 1 and greatest_shared(thing[0], thing[1]) == 1
 
 
 def is_name(thing):

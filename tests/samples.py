@@ -162,3 +162,62 @@ def no_list_shared(test, *things):
     """Check that no two places of the things hold one and the same list."""
     marks = [id(one) for thing in things for one in lists_in(thing)]
     test.assertEqual(len(marks), len(set(marks)))
+
+
+def load_numbers(ring, sending):
+    """Each tie's load as a Fraction, by walking both ways of each ask."""
+    loads = [Fraction(0) for tie in ring[0]]
+    for k, ask in enumerate(ring[1]):
+        for tie in walked(ring, k, "on"):
+            loads[tie] += number_of(sending[k])
+        for tie in walked(ring, k, "back"):
+            loads[tie] += number_of(ask[3]) - number_of(sending[k])
+    return loads
+
+
+def across_number(ring, cut):
+    """What goes across a cut, as a Fraction."""
+    inside = list(range(cut[0] + 1, cut[1] + 1))
+    return sum([number_of(ask[3]) for ask in ring[1] if (ask[1] in inside) != (ask[2] in inside)], Fraction(0))
+
+
+def shown_number(ring, cut):
+    """What a cut shows, as a Fraction."""
+    return across_number(ring, cut) / (number_of(ring[0][cut[0]]) + number_of(ring[0][cut[1]]))
+
+
+def every_cut(ring):
+    """All cuts, sorted."""
+    return [(g, h) for g in range(len(ring[0])) for h in range(g, len(ring[0]))]
+
+
+def most_shown(ring):
+    """The most that any cut shows, as a Fraction."""
+    return max([shown_number(ring, cut) for cut in every_cut(ring)])
+
+
+def with_ask_more(ring, one, other, size):
+    """The ring with one ask more behind the others."""
+    return (list(ring[0]), ring[1] + [("zzzzzzzz", one, other, size)])
+
+
+def long_rings():
+    """Rings of numbers of sixty figures, one of them of twelve places and twenty asks."""
+    chance = random.Random(60)
+    return [some_ring(chance, places, asks, long_ratio) for places, asks in ((2, 2), (3, 4), (5, 6), (12, 20))]
+
+
+def full_rings(many):
+    """Rings of twelve places and twenty asks."""
+    chance = random.Random(1220)
+    drawers = (small_ratio, whole_ratio, unit_room)
+    return [some_ring(chance, 12, 20, drawers[number % 3]) for number in range(many)]
+
+
+def small_rings(many):
+    """Rings of few places and asks, in which all ways can be gone through."""
+    chance = random.Random(7)
+    drawers = (small_ratio, whole_ratio, unit_room)
+    return [
+        some_ring(chance, chance.randint(2, 6), chance.randint(0, 5), drawers[number % 3]) for number in range(many)
+    ]
