@@ -11,6 +11,11 @@ def is_whole(thing):
     return isinstance(thing, int) and not isinstance(thing, bool)
 
 
+def is_number_below(thing, many):
+    """Whether a thing of any kind is the number of one of so many things that are numbered from 0."""
+    return is_whole(thing) and 0 <= thing < many
+
+
 def are_two_wholes(thing):
     """Whether a thing of any kind is a tuple of two whole numbers."""
     return isinstance(thing, tuple) and len(thing) == 2 and is_whole(thing[0]) and is_whole(thing[1])

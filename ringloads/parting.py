@@ -6,8 +6,8 @@ its back way then have enough for the rest.
 """
 
 from ringloads.cuts import across, cuts_apart, greatest_cut, parts_places, rooms_of
-from ringloads.divisors import least_common
 from ringloads.ratios import minus, ratio, times, under
+from ringloads.units import weighed
 from ringloads.ways import ON, is_over, ties_of
 
 
@@ -21,32 +21,15 @@ def fitting(ring, top):
 
 def sent_one_by_one(ring, top):
     """A sending that fits the top, where no cut shows more."""
-    sizes = [ask[3] for ask in ring[1]]
-    most = [times(top, room) for room in ring[0]]
-    # All is reckoned in whole numbers of one small unit, since long fractions would have to be brought to lowest
-    # terms at each step; it is made twice as small as sizes and rooms need, so that halves are whole, too.
-    units = 2 * common_bottom(sizes + most)
-    waiting = in_units(sizes, units)
-    free = in_units(most, units)
+    scale = weighed(ring, top)
+    waiting = scale[1]
+    free = scale[2]
     sending = []
     for k, size in enumerate(waiting):
         part = most_on(ring, k, waiting, free)
         free = left_free(ring, k, free, part, size - part)
-        sending.append(ratio(part, units))
+        sending.append(ratio(part, scale[0]))
     return sending
-
-
-def common_bottom(some):
-    """The least bottom that all fractions of a list can be told with."""
-    bottom = 1
-    for one in some:
-        bottom = least_common(bottom, one[1])
-    return bottom
-
-
-def in_units(some, units):
-    """How many units each fraction of a list is, where so many units are one."""
-    return [one[0] * (units // one[1]) for one in some]
 
 
 def most_on(ring, k, waiting, free):

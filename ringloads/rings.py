@@ -1,7 +1,7 @@
 """Rings: tuples (rooms, asks), and what refuses things that are none."""
 
 from ringloads.errors import NoRing
-from ringloads.names import is_name, is_ratio, is_whole
+from ringloads.names import is_name, is_number_below, is_ratio
 
 FEWEST_TIES = 2
 MOST_TIES = 12
@@ -42,11 +42,6 @@ def is_ask(thing, places):
         return False
     if not is_name(thing[0]) or not is_ratio(thing[3]):
         return False
-    if not is_place_of(thing[1], places) or not is_place_of(thing[2], places):
+    if not is_number_below(thing[1], places) or not is_number_below(thing[2], places):
         return False
     return thing[1] != thing[2] and thing[3][0] >= 0
-
-
-def is_place_of(thing, places):
-    """Whether a thing of any kind is the number of one of so many places."""
-    return is_whole(thing) and 0 <= thing < places

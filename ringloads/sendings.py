@@ -1,8 +1,9 @@
 """Sendings: lists with, for each ask, a fraction: what of it goes on."""
 
 from ringloads.loads import loads_of
+from ringloads.names import is_ratio
 from ringloads.ratios import NOUGHT, minus, plus, times, under
-from ringloads.ways import BACK, ON
+from ringloads.ways import BACK, ON, is_way
 
 
 def first_broken(ring, some, top):
@@ -26,6 +27,13 @@ def first_wrong_part(ring, some):
     return None
 
 
+def is_sending(ring, thing):
+    """Whether a thing of any kind is a sending of the ring."""
+    if not isinstance(thing, list) or len(thing) != len(ring[1]):
+        return False
+    return all([is_ratio(part) for part in thing]) and first_wrong_part(ring, thing) is None
+
+
 def first_tie_above(ring, sending, top):
     """The first tie whose load is above top times its room, or None."""
     for tie, load in enumerate(loads_of(ring, sending)):
@@ -38,7 +46,7 @@ def are_ways(ring, thing):
     """Whether a thing of any kind is ways of the ring."""
     if not isinstance(thing, list) or len(thing) != len(ring[1]):
         return False
-    return all([isinstance(way, str) and way in (ON, BACK) for way in thing])
+    return all([is_way(way) for way in thing])
 
 
 def sent_by(ring, ways):

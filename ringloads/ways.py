@@ -4,6 +4,11 @@ ON = "on"
 BACK = "back"
 
 
+def is_way(thing):
+    """Whether a thing of any kind is a way."""
+    return isinstance(thing, str) and thing in (ON, BACK)
+
+
 def other_way(way):
     """Back for on, on for back."""
     return BACK if way == ON else ON

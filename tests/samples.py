@@ -221,3 +221,108 @@ def small_rings(many):
     return [
         some_ring(chance, chance.randint(2, 6), chance.randint(0, 5), drawers[number % 3]) for number in range(many)
     ]
+
+
+def spoilings(thing):
+    """A thing's likes with one thing in it, at each place, exchanged for another, left out or put in."""
+    if isinstance(thing, (list, tuple)):
+        made_of = type(thing)
+        yield tuple(thing) if made_of is list else list(thing)
+        for number, one in enumerate(thing):
+            yield thing[:number] + thing[number + 1:]
+            for other in spoilings(one):
+                yield thing[:number] + made_of([other]) + thing[number + 1:]
+        yield thing + made_of([thing[-1] if thing else None])
+    if type(thing) is int:
+        yield from (thing + 1, thing - 1, -thing, str(thing), [thing], (thing,))
+        if thing in (0, 1):
+            yield bool(thing)
+    if isinstance(thing, str):
+        yield from (thing + " ", thing.upper(), thing[:-1], [thing], (thing,), other_text(thing))
+    if has_form_of_ratio(thing):
+        yield (2 * thing[0], 2 * thing[1])
+        yield (-thing[0], -thing[1])
+        yield told(number_of(thing) + Fraction(1, 10 ** 9))
+        yield told(number_of(thing) - Fraction(1, 10 ** 9))
+    yield from odd_things()
+
+
+def other_text(text):
+    """Another text where one of two stands."""
+    return {"on": "back", "back": "on"}.get(text, "on")
+
+
+def is_way_to_the_kind(thing):
+    """Whether a thing is a way, to the kinds and forms."""
+    return type(thing) is str and thing in ("on", "back")
+
+
+def are_ways_to_the_kind(ring, thing):
+    """Whether a thing is ways of the ring, to the kinds and forms."""
+    if type(thing) is not list or len(thing) != len(ring[1]):
+        return False
+    return all([is_way_to_the_kind(way) for way in thing])
+
+
+def is_sending_to_the_kind(ring, thing):
+    """Whether a thing is a sending of the ring, to the kinds and forms."""
+    if type(thing) is not list or len(thing) != len(ring[1]):
+        return False
+    if not all([has_form_of_ratio(part) for part in thing]):
+        return False
+    return all([0 <= number_of(part) <= number_of(ask[3]) for part, ask in zip(thing, ring[1])])
+
+
+def top_number(ring, sending):
+    """The greatest strain, as a Fraction."""
+    return max([load / number_of(room) for load, room in zip(load_numbers(ring, sending), ring[0])])
+
+
+def whole_sending(ring, ways):
+    """The sending of ways."""
+    return [ask[3] if way == "on" else (0, 1) for ask, way in zip(ring[1], ways)]
+
+
+def parted_by_hand(ring, sending):
+    """The asks that are parted in a sending."""
+    return [k for k, ask in enumerate(ring[1]) if 0 < number_of(sending[k]) < number_of(ask[3])]
+
+
+def cross_by_hand(ring, k, l):
+    """Whether two asks cross, by going round the ring and noting whose places one meets."""
+    met = []
+    for place in range(len(ring[0])):
+        for ask in (k, l):
+            if place in ring[1][ask][1:3]:
+                met.append((place, ask))
+    if len(set([place for place, ask in met])) != 4:
+        return False
+    asks = [ask for place, ask in met]
+    return asks in ([k, l, k, l], [l, k, l, k])
+
+
+def all_cross(ring, some):
+    """Whether any two of some asks cross."""
+    return all([cross_by_hand(ring, k, l) for k in some for l in some if k < l])
+
+
+def crossing_ring(chance, places, asks, ratio_of):
+    """A ring whose asks all cross, told in any order and either way round."""
+    spots = sorted(chance.sample(range(places), 2 * asks))
+    pairs = [(spots[k], spots[k + asks]) for k in range(asks)]
+    chance.shuffle(pairs)
+    drawn = []
+    for k, pair in enumerate(pairs):
+        one, other = chance.sample(pair, 2)
+        drawn.append((name_of(k), one, other, ratio_of(chance, False)))
+    return ([ratio_of(chance, False) for tie in range(places)], drawn)
+
+
+def parted_sending(chance, ring):
+    """A sending in which each ask of a size above nought is parted."""
+    return [told(number_of(ask[3]) * Fraction(chance.randint(1, 11), 12)) for ask in ring[1]]
+
+
+def long_sending(chance, ring):
+    """A sending with parts of long figures."""
+    return [told(number_of(ask[3]) * Fraction(chance.randint(1, SIXTY), SIXTY)) for ask in ring[1]]
