@@ -1,4 +1,4 @@
-"""What is told of any thing: whether it is a whole number, a fraction, a name."""
+"""What is told of any thing: whether it is a whole number, a fraction, a name, a tuple that begins with a word."""
 
 from ringloads.divisors import greatest_shared
 
@@ -31,3 +31,10 @@ def is_name(thing):
     if not isinstance(thing, str):
         return False
     return 1 <= len(thing) <= LONGEST_NAME and all(["a" <= sign <= "z" for sign in thing])
+
+
+def is_told_as(thing, word, length):
+    """Whether a thing of any kind is a tuple of so many things, the first one this text."""
+    if not isinstance(thing, tuple) or len(thing) != length:
+        return False
+    return isinstance(thing[0], str) and thing[0] == word

@@ -16,6 +16,15 @@ def look_at_ring(thing):
     look_at_asks(thing[1], len(thing[0]))
 
 
+def is_ring(thing):
+    """Whether a thing of any kind is a ring."""
+    try:
+        look_at_ring(thing)
+    except NoRing:
+        return False
+    return True
+
+
 def look_at_rooms(rooms):
     """None where a thing of any kind is the rooms of a ring, else NoRing."""
     if not isinstance(rooms, list) or not FEWEST_TIES <= len(rooms) <= MOST_TIES:

@@ -7,9 +7,8 @@ much more goes by rising numbers; the sums of the first so many gains stay withi
 from ringloads.crossing import first_side_by_side, lesser_place, parted_in
 from ringloads.errors import NoSlide
 from ringloads.leasts import least_top
-from ringloads.loads import top_of
 from ringloads.ratios import NOUGHT, greater, minus, plus, times, under
-from ringloads.sendings import are_ways, sent_by
+from ringloads.sendings import are_ways, top_by
 from ringloads.slides import slid_by, slides_for
 from ringloads.ways import BACK, ON, other_way
 
@@ -105,4 +104,4 @@ def near_whole(ring):
     least = least_top(ring)
     rounding = rounding_of(ring, least[1])
     ways = list(rounding[1])
-    return (ways, top_of(ring, sent_by(ring, ways))[0], rounding, least)
+    return (ways, top_by(ring, ways), rounding, least)

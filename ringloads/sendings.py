@@ -1,6 +1,6 @@
 """Sendings: lists with, for each ask, a fraction: what of it goes on."""
 
-from ringloads.loads import loads_of
+from ringloads.loads import loads_of, top_of
 from ringloads.names import is_ratio
 from ringloads.ratios import NOUGHT, minus, plus, times, under
 from ringloads.ways import BACK, ON, is_way
@@ -52,6 +52,11 @@ def are_ways(ring, thing):
 def sent_by(ring, ways):
     """The sending in which each ask goes whole by its way."""
     return [ask[3] if way == ON else NOUGHT for ask, way in zip(ring[1], ways)]
+
+
+def top_by(ring, ways):
+    """The top of ways, as a fraction."""
+    return top_of(ring, sent_by(ring, ways))[0]
 
 
 def ways_of(ring, sending):
