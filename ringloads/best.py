@@ -1,10 +1,8 @@
 """The best ways of a ring, with a tree that shows that no ways have a lesser top."""
 
-from ringloads.errors import NoTree
-from ringloads.names import is_ratio
 from ringloads.search import ways_for
-from ringloads.sendings import are_ways, top_by
-from ringloads.trees import look_at_tree
+from ringloads.sendings import are_ways_with_top, top_by
+from ringloads.trees import is_tree
 from ringloads.ways import ON
 
 
@@ -26,12 +24,6 @@ def best_ways(ring):
 
 def lets_best(ring, thing):
     """Whether a thing of any kind is a best top with its ways and its tree."""
-    if not isinstance(thing, tuple) or len(thing) != 3:
+    if not isinstance(thing, tuple) or len(thing) != 3 or not are_ways_with_top(ring, thing[1], thing[0]):
         return False
-    if not is_ratio(thing[0]) or not are_ways(ring, thing[1]) or top_by(ring, thing[1]) != thing[0]:
-        return False
-    try:
-        look_at_tree(ring, wish_for_less(ring, thing[0]), thing[2])
-    except NoTree:
-        return False
-    return True
+    return is_tree(ring, wish_for_less(ring, thing[0]), thing[2])

@@ -59,6 +59,11 @@ def top_by(ring, ways):
     return top_of(ring, sent_by(ring, ways))[0]
 
 
+def are_ways_with_top(ring, thing, top):
+    """Whether two things of any kind are ways of the ring and their top."""
+    return are_ways(ring, thing) and is_ratio(top) and top_by(ring, thing) == top
+
+
 def ways_of(ring, sending):
     """The ways of a whole sending, None of others."""
     ways = []

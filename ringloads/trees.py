@@ -34,6 +34,15 @@ def look_at_tree(ring, wish, thing):
             ahead.append(branch_of(here, ON))
 
 
+def is_tree(ring, wish, thing):
+    """Whether a thing of any kind is a tree for the wish."""
+    try:
+        look_at_tree(ring, wish, thing)
+    except NoTree:
+        return False
+    return True
+
+
 def branch_of(here, way):
     """Where one comes from a split by a way: a tuple (tree, fixed, way)."""
     tree = here[0]

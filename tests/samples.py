@@ -326,3 +326,29 @@ def parted_sending(chance, ring):
 def long_sending(chance, ring):
     """A sending with parts of long figures."""
     return [told(number_of(ask[3]) * Fraction(chance.randint(1, SIXTY), SIXTY)) for ask in ring[1]]
+
+
+def some_string(chance, many, ratio_of):
+    """A string of so many rings drawn by chance."""
+    string = []
+    for number in range(many):
+        rooms = [ratio_of(chance, False) for tie in range(chance.randint(2, 12))]
+        string.append((rooms, chance.choice(string_places(string)) if string else None))
+    return string
+
+
+def string_places(string):
+    """All places of a string, sorted."""
+    return [(r, p) for r, one in enumerate(string) for p in range(len(one[0])) if p != 0 or r == 0]
+
+
+def many_strings():
+    """Strings of one to six rings, the same ones each time."""
+    chance = random.Random(12)
+    drawers = (small_ratio, whole_ratio, unit_room, long_ratio)
+    return [some_string(chance, 1 + number % 6, drawers[number % 4]) for number in range(72)]
+
+
+def chained_string(places, at):
+    """A string of six rings of so many places with rooms of one, each hung at place at of the one ahead."""
+    return [([(1, 1)] * places, None if r == 0 else (r - 1, at)) for r in range(6)]
