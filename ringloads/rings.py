@@ -36,21 +36,28 @@ def look_at_rooms(rooms):
 
 def look_at_asks(asks, places):
     """None where a thing of any kind is the asks of a ring of so many places, else NoRing."""
-    if not isinstance(asks, list) or len(asks) > MOST_ASKS:
+    if isinstance(asks, list) and len(asks) > MOST_ASKS:
+        raise NoRing("asks", None)
+    look_at_each_ask(asks, lambda place: is_number_below(place, places))
+
+
+def look_at_each_ask(asks, is_end):
+    """None where a thing of any kind is a list of asks, names unlike, between places that is_end tells; else NoRing."""
+    if not isinstance(asks, list):
         raise NoRing("asks", None)
     taken = {}
     for number, ask in enumerate(asks):
-        if not is_ask(ask, places) or ask[0] in taken:
+        if not is_ask(ask, is_end) or ask[0] in taken:
             raise NoRing("asks", number)
         taken[ask[0]] = True
 
 
-def is_ask(thing, places):
-    """Whether a thing of any kind is an ask of a ring of so many places, other asks aside."""
+def is_ask(thing, is_end):
+    """Whether a thing of any kind is an ask between places that is_end tells, other asks aside."""
     if not isinstance(thing, tuple) or len(thing) != 4:
         return False
     if not is_name(thing[0]) or not is_ratio(thing[3]):
         return False
-    if not is_number_below(thing[1], places) or not is_number_below(thing[2], places):
+    if not is_end(thing[1]) or not is_end(thing[2]):
         return False
     return thing[1] != thing[2] and thing[3][0] >= 0

@@ -21,18 +21,17 @@ def slid_by(ring, sending, thing):
 
 def is_slide(ring, sending, thing):
     """Whether a thing of any kind is a slide of the sending."""
-    if not has_form_of_slide(ring, thing) or thing[0] == thing[2]:
+    if not has_form_of_slide(thing, len(ring[1])) or thing[0] == thing[2]:
         return False
     if not share_no_tie(ring, thing[0], thing[1], thing[2], thing[3]):
         return False
     return under(NOUGHT, thing[4]) and not under(most_slid(ring, sending, thing), thing[4])
 
 
-def has_form_of_slide(ring, thing):
-    """Whether a thing of any kind is a tuple of an ask, a way, an ask, a way and a fraction."""
+def has_form_of_slide(thing, asks):
+    """Whether a thing of any kind is a tuple of one of so many asks, a way, an ask, a way and a fraction."""
     if not isinstance(thing, tuple) or len(thing) != 5:
         return False
-    asks = len(ring[1])
     if not is_number_below(thing[0], asks) or not is_number_below(thing[2], asks):
         return False
     return is_way(thing[1]) and is_way(thing[3]) and is_ratio(thing[4])

@@ -133,6 +133,48 @@ class Language(unittest.TestCase):
                         is_text = isinstance(one, ast.Expr) and isinstance(one.value, ast.Constant)
                         self.assertTrue(is_text or isinstance(one, ast.FunctionDef), (name, node.name))
 
+    def test_methods_and_values_of_classes(self):
+        methods = set()
+        values = set()
+        for name, text, tree in files():
+            for node in ast.walk(tree):
+                if isinstance(node, ast.ClassDef):
+                    own = [one.name for one in node.body if isinstance(one, ast.FunctionDef)]
+                    self.assertEqual(len(own), len(set(own)), (name, node.name))
+                    methods.update(own)
+                if isinstance(node, ast.Attribute) and isinstance(node.ctx, ast.Store):
+                    self.assertIsInstance(node.value, ast.Name, name)
+                    values.add(node.attr)
+        self.assertEqual(methods & values, set())
+        taken = set([name for kind in (str, int, list, dict, set, bytes, tuple) for name in dir(kind)])
+        self.assertEqual(methods & taken - TWO_UNDERSCORES - METHODS, set())
+        self.assertEqual(values & taken, set())
+
+    def test_values_at_the_tops_of_files(self):
+        for name, text, tree in files():
+            functions = [node.name for node in tree.body if isinstance(node, ast.FunctionDef)]
+            for node in tree.body:
+                if isinstance(node, ast.Assign):
+                    self.check_plain(node.value, functions, (name, node.lineno), True)
+
+    def check_plain(self, node, functions, where, is_outer):
+        if isinstance(node, ast.Name):
+            self.assertIn(node.id, functions, where)
+        elif isinstance(node, (ast.Tuple, ast.List, ast.Dict)):
+            self.assertTrue(is_outer or isinstance(node, ast.Tuple), where)
+            inner = node.keys + node.values if isinstance(node, ast.Dict) else node.elts
+            for one in inner:
+                self.check_plain(one, functions, where, False)
+        else:
+            self.assertIsInstance(node, ast.Constant, where)
+
+    def test_f_strings(self):
+        for name, text, tree in files():
+            for node in ast.walk(tree):
+                if isinstance(node, ast.FormattedValue):
+                    self.assertIsInstance(node.value, ast.Name, (name, node.lineno))
+                    self.assertIsNone(node.format_spec, (name, node.lineno))
+
     def test_statements_and_expressions(self):
         for name, text, tree in files():
             for node in ast.walk(tree):
